@@ -1,0 +1,1 @@
+"""Duskround: rounds of a lamplighter on a street without ends."""

@@ -1,0 +1,122 @@
+"""What the tests share: settings, made-up rounds, a street that is really walked, a bound on steps."""
+
+import random
+import sys
+
+SETTINGS = (2, 3, 5, 7)
+HUGE = 10 ** 30 - 1
+VAST = 10 ** 300 + 7
+
+
+class TooManySteps(AssertionError):
+    """A call took more steps than the bound."""
+
+
+def within_steps(limit, call, *things):
+    """What a call tells; it fails, and doesn't hang, where it takes more than so many lines."""
+    taken = [0]
+
+    def count(frame, event, arg):
+        taken[0] += 1
+        if taken[0] > limit:
+            raise TooManySteps(f"more than {limit} steps")
+        return count
+
+    before = sys.gettrace()
+    sys.settrace(count)
+    try:
+        return call(*things)
+    finally:
+        sys.settrace(before)
+
+
+def chance(seed):
+    """A source of made-up inputs that is the same in every run."""
+    return random.Random(seed)
+
+
+def some_pairs(source, many=8, reach=9):
+    """A list of pairs, out of order, with places that come again and settings of any size."""
+    return [(source.randint(-reach, reach), source.randint(-25, 25)) for at in range(source.randint(0, many))]
+
+
+def some_pattern(source, p, reach=9):
+    """A pattern that is made without the program."""
+    places = sorted(source.sample(range(-reach, reach + 1), source.randint(0, 7)))
+    return tuple((place, source.randint(1, p - 1)) for place in places)
+
+
+def some_round(source, p):
+    return (source.randint(-6, 6), some_pattern(source, p))
+
+
+def some_deeds(source, many=12):
+    words = ("go", "turn")
+    return [(source.choice(words), source.randint(-9, 9)) for at in range(source.randint(0, many))]
+
+
+def check_pattern(case, p, pattern):
+    """Just a tuple of tuples of two whole numbers, places rising, settings from 1 to p - 1."""
+    case.assertIs(type(pattern), tuple)
+    for pair in pattern:
+        case.assertIs(type(pair), tuple)
+        case.assertEqual(len(pair), 2)
+        case.assertIs(type(pair[0]), int)
+        case.assertIs(type(pair[1]), int)
+        case.assertTrue(1 <= pair[1] <= p - 1, pair)
+    places = [place for place, setting in pattern]
+    case.assertEqual(places, sorted(set(places)))
+
+
+def check_round(case, p, one):
+    """Just a tuple of an end and a pattern."""
+    case.assertIs(type(one), tuple)
+    case.assertEqual(len(one), 2)
+    case.assertIs(type(one[0]), int)
+    check_pattern(case, p, one[1])
+
+
+class Street:
+    """A street whose lamps are turned one setting, and whose places are gone one step, at a time."""
+
+    def __init__(self, p):
+        self.p = p
+        self.place = 0
+        self.lamps = {}
+
+    def turn(self, k):
+        for at in range(abs(k)):
+            now = self.lamps.get(self.place, 0) + (1 if k > 0 else self.p - 1)
+            self.lamps[self.place] = now - self.p if now >= self.p else now
+
+    def go(self, k):
+        for at in range(abs(k)):
+            self.place += 1 if k > 0 else -1
+
+    def walk(self, deeds):
+        for word, k in deeds:
+            if word == "go":
+                self.go(k)
+            else:
+                self.turn(k)
+
+    def walk_round(self, one):
+        """Goes a round from here: to each lamp and back, then to the end."""
+        end, pattern = one
+        for place, setting in pattern:
+            self.walk([("go", place), ("turn", setting), ("go", -place)])
+        self.go(end)
+
+    def pattern(self):
+        return tuple((place, self.lamps[place]) for place in sorted(self.lamps) if self.lamps[place])
+
+    def told(self):
+        return (self.place, self.pattern())
+
+
+def walked_rounds(p, rounds):
+    """The round that some rounds, gone one behind the other, do."""
+    street = Street(p)
+    for one in rounds:
+        street.walk_round(one)
+    return street.told()

@@ -1,0 +1,96 @@
+"""The form of the package's code: those rules of the language part that a plain look can tell."""
+
+import ast
+import builtins
+import pathlib
+import re
+import unittest
+
+PACKAGE = pathlib.Path(__file__).resolve().parent.parent / "duskround"
+FILES = sorted(PACKAGE.glob("*.py"))
+OWN_NAMES = set(
+    "len range enumerate zip min max sum abs sorted reversed int str bool bytes list tuple dict set isinstance ord "
+    "repr any all divmod Exception ValueError TypeError KeyError IndexError LookupError ZeroDivisionError "
+    "ArithmeticError OverflowError RuntimeError NotImplementedError AttributeError StopIteration".split()
+)
+BARRED_WORDS = (
+    "type typing typing_extensions enum Enum IntEnum StrEnum Flag IntFlag Generic Protocol ABC ABCMeta namedtuple "
+    "NamedTuple TypedDict TYPE_CHECKING abstractmethod"
+).split()
+BARRED_KINDS = (
+    ast.With, ast.Match, ast.Global, ast.Nonlocal, ast.Yield, ast.YieldFrom, ast.GeneratorExp, ast.NamedExpr,
+    ast.AsyncFunctionDef, ast.Await, ast.Div, ast.Import,
+)
+
+
+def bound_names(tree):
+    """Every name that a file gives a meaning."""
+    names = set()
+    for node in ast.walk(tree):
+        if isinstance(node, (ast.FunctionDef, ast.ClassDef)):
+            names.add(node.name)
+        elif isinstance(node, ast.arg):
+            names.add(node.arg)
+        elif isinstance(node, ast.Name) and isinstance(node.ctx, ast.Store):
+            names.add(node.id)
+        elif isinstance(node, ast.ImportFrom):
+            names.update(alias.asname or alias.name for alias in node.names)
+        elif isinstance(node, ast.ExceptHandler) and node.name:
+            names.add(node.name)
+    return names
+
+
+class TestForm(unittest.TestCase):
+    def test_nothing_but_plain_files_lies_in_the_package(self):
+        for path in PACKAGE.iterdir():
+            if path.name != "__pycache__":
+                self.assertRegex(path.name, r"^[a-z0-9_]+\.py$")
+        self.assertIn("__init__.py", [path.name for path in FILES])
+
+    def test_signs_and_sizes(self):
+        for path in FILES:
+            text = path.read_bytes().decode("ascii")
+            rows = text.split("\n")
+            self.assertLessEqual(len(rows), 400, path)
+            for row in rows:
+                self.assertRegex(row, r"^[ -~]{0,120}$", path)
+            for word in BARRED_WORDS:
+                self.assertIsNone(re.search(rf"\b{word}\b", text), (path, word))
+
+    def test_functions_are_short_and_bare(self):
+        for path in FILES:
+            for node in ast.walk(ast.parse(path.read_text())):
+                if isinstance(node, ast.FunctionDef):
+                    self.assertLessEqual(node.end_lineno - node.lineno + 1, 40, (path, node.name))
+                    self.assertEqual(node.decorator_list, [])
+                    self.assertIsNone(node.args.vararg)
+                    self.assertIsNone(node.args.kwarg)
+
+    def test_no_barred_kind_of_code(self):
+        for path in FILES:
+            for node in ast.walk(ast.parse(path.read_text())):
+                self.assertNotIsInstance(node, BARRED_KINDS, (path, getattr(node, "lineno", 0)))
+                if isinstance(node, ast.Constant):
+                    self.assertNotIsInstance(node.value, (float, complex), path)
+
+    def test_imports_are_the_packages_own(self):
+        for path in FILES:
+            for node in ast.walk(ast.parse(path.read_text())):
+                if isinstance(node, ast.ImportFrom):
+                    self.assertEqual(node.level, 0, path)
+                    self.assertRegex(node.module, r"^duskround\.[a-z_]+$", path)
+
+    def test_names(self):
+        for path in FILES:
+            tree = ast.parse(path.read_text())
+            bound = bound_names(tree)
+            for name in bound:
+                self.assertNotIn(name, OWN_NAMES | set(dir(builtins)), path)
+                self.assertRegex(name, r"^([A-Za-z][A-Za-z0-9_]*|__(init|eq|repr|str|len)__)$", path)
+            for node in ast.walk(tree):
+                if isinstance(node, ast.Name) and isinstance(node.ctx, ast.Load):
+                    self.assertIn(node.id, bound | OWN_NAMES, path)
+
+
+if __name__ == "__main__":
+    unittest.main()
