@@ -1,5 +1,6 @@
 """What the tests share: settings, made-up rounds, a street that is really walked, a bound on steps."""
 
+import copy
 import random
 import sys
 
@@ -120,3 +121,34 @@ def walked_rounds(p, rounds):
     for one in rounds:
         street.walk_round(one)
     return street.told()
+
+
+def check_refused(case, kind, call, *things):
+    """A call is refused with just that class, and what was handed in stays as it was."""
+    before = copy.deepcopy(things)
+    with case.assertRaises(kind) as held:
+        call(*things)
+    case.assertIs(type(held.exception), kind)
+    case.assertEqual(things, before)
+
+
+def check_untouched(case, call, *things):
+    """What a call tells; what was handed in stays as it was, and what is done to the answer harms no later one."""
+    before = copy.deepcopy(things)
+    told = call(*things)
+    case.assertEqual(things, before)
+    kept = copy.deepcopy(told)
+    spoil(call(*things))
+    case.assertEqual(things, before)
+    case.assertEqual(told, kept)
+    case.assertEqual(call(*things), kept)
+    return told
+
+
+def spoil(told):
+    """Empties every list in what was told."""
+    if isinstance(told, (list, tuple)):
+        for thing in told:
+            spoil(thing)
+    if isinstance(told, list):
+        told.clear()

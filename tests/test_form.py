@@ -17,6 +17,11 @@ BARRED_WORDS = (
     "type typing typing_extensions enum Enum IntEnum StrEnum Flag IntFlag Generic Protocol ABC ABCMeta namedtuple "
     "NamedTuple TypedDict TYPE_CHECKING abstractmethod"
 ).split()
+METHODS = set(
+    "append clear copy count endswith extend find get index insert isalnum isalpha isdigit islower isspace isupper "
+    "items join keys ljust lower lstrip partition pop remove replace reverse rfind rjust rpartition rsplit rstrip "
+    "setdefault split splitlines startswith strip update upper values zfill bit_length".split()
+)
 BARRED_KINDS = (
     ast.With, ast.Match, ast.Global, ast.Nonlocal, ast.Yield, ast.YieldFrom, ast.GeneratorExp, ast.NamedExpr,
     ast.AsyncFunctionDef, ast.Await, ast.Div, ast.Import,
@@ -38,6 +43,19 @@ def bound_names(tree):
         elif isinstance(node, ast.ExceptHandler) and node.name:
             names.add(node.name)
     return names
+
+
+def own_attributes(trees):
+    """The methods that the package's classes have, and the values that they give their objects."""
+    methods = set()
+    values = set()
+    for tree in trees:
+        for node in ast.walk(tree):
+            if isinstance(node, ast.ClassDef):
+                methods.update(row.name for row in node.body if isinstance(row, ast.FunctionDef))
+            elif isinstance(node, ast.Attribute) and isinstance(node.ctx, ast.Store):
+                values.add(node.attr)
+    return methods, values
 
 
 class TestForm(unittest.TestCase):
@@ -90,6 +108,37 @@ class TestForm(unittest.TestCase):
             for node in ast.walk(tree):
                 if isinstance(node, ast.Name) and isinstance(node.ctx, ast.Load):
                     self.assertIn(node.id, bound | OWN_NAMES, path)
+
+    def test_methods_and_values(self):
+        trees = [ast.parse(path.read_text()) for path in FILES]
+        methods, values = own_attributes(trees)
+        self.assertEqual(methods & values, set())
+        for name in values:
+            for kind in (str, int, list, dict, set, bytes):
+                self.assertFalse(hasattr(kind, name), name)
+        for path, tree in zip(FILES, trees):
+            for node in ast.walk(tree):
+                if isinstance(node, ast.Attribute):
+                    self.assertIn(node.attr, METHODS | methods | values, path)
+
+    def test_is_stands_beside_none_true_and_false(self):
+        for path in FILES:
+            for node in ast.walk(ast.parse(path.read_text())):
+                if isinstance(node, ast.Compare) and isinstance(node.ops[0], (ast.Is, ast.IsNot)):
+                    beside = node.comparators[0]
+                    self.assertIsInstance(beside, ast.Constant, path)
+                    self.assertIn(beside.value, (None, True, False), path)
+
+    def test_no_two_files_draw_from_one_another(self):
+        drawn = {}
+        for path in FILES:
+            rows = [node for node in ast.parse(path.read_text()).body if isinstance(node, ast.ImportFrom)]
+            drawn[path.stem] = {row.module.split(".")[1] for row in rows}
+        while drawn:
+            free = [name for name in drawn if not drawn[name] & set(drawn)]
+            self.assertNotEqual(free, [], drawn)
+            for name in free:
+                del drawn[name]
 
 
 if __name__ == "__main__":

@@ -20,6 +20,33 @@ ARGUMENTS = {
         "repeated": ["p", "one", "n"],
         "after": ["p", "one", "n", "place"],
     },
+    "least": {
+        "price": ["p", "setting"],
+        "fewest": ["p", "one"],
+        "walked": ["p", "row"],
+        "shortest": ["p", "one"],
+        "farther": ["p", "one"],
+        "many_at": ["p", "n"],
+    },
+    "sums": {
+        "trimmed": ["p", "row"],
+        "inverse": ["p", "setting"],
+        "plus": ["p", "one", "other"],
+        "product": ["p", "one", "other"],
+        "parted": ["p", "one", "other"],
+        "common": ["p", "one", "other"],
+    },
+    "stairs": {
+        "column": ["place", "stride"],
+        "low": ["stride", "stairs", "pattern"],
+        "rest_of": ["p", "stride", "stairs", "pattern"],
+        "taken": ["p", "stride", "stairs", "pattern"],
+        "built": ["p", "stride", "patterns"],
+    },
+    "works": {
+        "worked": ["p", "members", "lines"],
+        "spelled": ["lines"],
+    },
 }
 
 
