@@ -62,3 +62,9 @@ def after(p, one, n, place):
         if rest == 0 and 0 <= lap < n:
             total += setting
     return total % p
+
+
+def lies_within(one, farthest_end, farthest_place):
+    """True where a round ends and is lit no farther from 0 than told, else False."""
+    end, pattern = one
+    return abs(end) <= farthest_end and all([abs(place) <= farthest_place for place, setting in pattern])

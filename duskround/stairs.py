@@ -46,13 +46,19 @@ def heights(places, stride, first):
     return sorted([place // stride for place in places if place % stride == first])
 
 
+def measured(stride, stair):
+    """A tuple of a stair's first column and its length."""
+    places = [place for place, setting in stair]
+    first = first_column(places, stride)
+    # A stair stands at height 0 in its first column: its highest lamp there tells the length.
+    return (first, heights(places, stride, first)[-1])
+
+
 def low(stride, stairs, pattern):
     """True where a pattern lies low under stairs, else False."""
     lit = [place for place, setting in pattern]
     for stair in stairs:
-        places = [place for place, setting in stair]
-        first = first_column(places, stride)
-        length = heights(places, stride, first)[-1]
+        first, length = measured(stride, stair)
         if any([height < 0 or height >= length for height in heights(lit, stride, first)]):
             return False
     return True

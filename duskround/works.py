@@ -53,17 +53,22 @@ def lengths(lines):
     return found
 
 
-def needed(lines, many):
-    """The numbers of the lines that the last line is spelled out of, rising; empty ones are left out."""
-    wanted = {len(lines) - 1: True}
-    for at in range(len(lines) - 1, -1, -1):
-        word = lines[at][0]
-        if at not in wanted or many[at] == 0:
-            continue
-        if word == "join" or word == "times":
-            wanted[lines[at][1]] = True
-        if word == "join":
-            wanted[lines[at][2]] = True
+def named(line):
+    """The numbers of the lines that a line names."""
+    if line[0] == "join":
+        return [line[1], line[2]]
+    if line[0] == "times":
+        return [line[1]]
+    return []
+
+
+def needed(lines, last, many):
+    """The numbers of the lines that a line is spelled out of, its own too, rising; empty ones are left out."""
+    wanted = {last: True}
+    for at in range(last, -1, -1):
+        if at in wanted and many[at] > 0:
+            for ahead in named(lines[at]):
+                wanted[ahead] = True
     return [at for at in sorted(wanted) if many[at] > 0]
 
 
@@ -83,7 +88,7 @@ def spelled(lines):
         raise TooLong(f"the line has more than {LONGEST_SPELLING} members when it is spelled out")
     # Only what goes into the last line is spelled out: other lines may be as long as they like.
     rows = {}
-    for at in needed(lines, many):
+    for at in needed(lines, len(lines) - 1, many):
         line = lines[at]
         if line[0] == "member":
             rows[at] = [(line[1], 1)]
@@ -92,3 +97,72 @@ def spelled(lines):
         else:
             rows[at] = several(rows[line[1]], line[2])
     return rows.get(len(lines) - 1, [])
+
+
+class Draft:
+    """A working in the making, in which no line is written twice; None stands for a round that does nothing."""
+
+    def __init__(self, lines):
+        self.lines = list(lines)
+        self.numbers = {line: at for at, line in enumerate(lines)}
+
+    def write(self, line):
+        """The number of a line, which is written where it isn't there."""
+        if line not in self.numbers:
+            self.numbers[line] = len(self.lines)
+            self.lines.append(line)
+        return self.numbers[line]
+
+    def both(self, one, other):
+        """The number of the line that joins two."""
+        if one is None:
+            return other
+        if other is None:
+            return one
+        return self.write(("join", one, other))
+
+    def often(self, at, n):
+        """The number of the line that is another one n times."""
+        if n == 0 or at is None:
+            return None
+        if n == 1:
+            return at
+        return self.write(("times", at, n))
+
+    def row(self, ways):
+        """The number of the line of a spelled row (k, way)."""
+        now = None
+        for k, forth in ways:
+            now = self.both(now, self.often(self.write(("member", k)), forth))
+        return now
+
+    def chain(self, lap, things, stop):
+        """The number of the line of things (shift, at), each seen from so many laps, and of `stop` laps behind them."""
+        # Laps back behind one thing and laps on ahead of the next come to a few: no thing is moved by itself.
+        now = None
+        here = 0
+        for shift, at in sorted(things) + [(stop, None)]:
+            now = self.both(now, self.often(lap, shift - here))
+            now = self.both(now, at)
+            here = shift
+        return now
+
+    def standing(self, at):
+        """The number of a line that is surely there."""
+        if at is None:
+            return self.write(("rest",))
+        return at
+
+    def only(self, last):
+        """A working of those lines alone of which a line is made, with that line last."""
+        places = {}
+        told = []
+        for at in needed(self.lines, last, [1] * len(self.lines)):
+            line = self.lines[at]
+            if line[0] == "join":
+                line = ("join", places[line[1]], places[line[2]])
+            elif line[0] == "times":
+                line = ("times", places[line[1]], line[2])
+            places[at] = len(told)
+            told.append(line)
+        return told

@@ -1,6 +1,7 @@
 """What the tests share: settings, made-up rounds, a street that is really walked, a bound on steps."""
 
 import copy
+import functools
 import random
 import sys
 
@@ -113,6 +114,96 @@ class Street:
 
     def told(self):
         return (self.place, self.pattern())
+
+
+@functools.lru_cache(maxsize=None)
+def column_of(place, stride):
+    """A column found by going up or down by strides, not by parting."""
+    while stride and place < 0:
+        place += stride
+    while stride and place >= stride:
+        place -= stride
+    return place
+
+
+def summed(p, pairs):
+    """The pattern that pairs make together."""
+    lamps = {}
+    for place, setting in pairs:
+        lamps[place] = lamps.get(place, 0) + setting
+    return tuple((place, lamps[place] % p) for place in sorted(lamps) if lamps[place] % p)
+
+
+def way_back(p, one):
+    end, pattern = one
+    return (-end, tuple((place - end, p - setting) for place, setting in pattern))
+
+
+def beyond(one, farthest_end, farthest_place):
+    """Whether a round ends or is lit farther from 0 than told."""
+    return abs(one[0]) > farthest_end or any(abs(place) > farthest_place for place, setting in one[1])
+
+
+def put_in_row(p, rounds):
+    """The round of some rounds one behind the other: as `walked_rounds`, without a step for each place."""
+    here = 0
+    pairs = []
+    for end, pattern in rounds:
+        pairs += [(place + here, setting) for place, setting in pattern]
+        here += end
+    return (here, summed(p, pairs))
+
+
+def put_together(p, stride, patterns, parts, rest=()):
+    """A rest and the patterns of some parts, each moved and so many times, added lamp by lamp."""
+    pairs = list(rest)
+    for which, shift, setting in parts:
+        pairs += [(place + stride * shift, lamp * setting) for place, lamp in patterns[which]]
+    return summed(p, pairs)
+
+
+def first_and_lit(pattern, stride):
+    """The first column of a pattern, and the pairs that it has there."""
+    first = min(column_of(place, stride) for place, setting in pattern)
+    return first, [pair for pair in pattern if column_of(pair[0], stride) == first]
+
+
+def length_of(pattern, stride):
+    lit = first_and_lit(pattern, stride)[1]
+    return (lit[-1][0] - lit[0][0]) // stride if stride else 0
+
+
+def lies_low(stride, stairs, pattern):
+    """Whether a pattern lies low, by the places that [9] tells for each stair."""
+    for stair in stairs:
+        first = first_and_lit(stair, stride)[0]
+        free = [first + stride * k for k in range(length_of(stair, stride))]
+        if any(column_of(place, stride) == first and place not in free for place, setting in pattern):
+            return False
+    return True
+
+
+def drawn(source, p, reach, many):
+    """A pattern of at most so many lamps."""
+    places = source.sample(range(-reach, reach + 1), min(source.randint(0, many), 2 * reach + 1))
+    return tuple((place, source.randint(1, p - 1)) for place in sorted(places))
+
+
+def check_stair(case, p, stride, stair):
+    check_pattern(case, p, stair)
+    case.assertNotEqual(stair, ())
+    first, lit = first_and_lit(stair, stride)
+    case.assertEqual(lit[-1][1], 1)
+    case.assertEqual(lit[0][0], first)
+
+
+def check_stairs(case, p, stride, stairs):
+    """Just a tuple of stairs as [9] tells them."""
+    case.assertIs(type(stairs), tuple)
+    for stair in stairs:
+        check_stair(case, p, stride, stair)
+    firsts = [first_and_lit(stair, stride)[0] for stair in stairs]
+    case.assertEqual(firsts, sorted(set(firsts)))
 
 
 def walked_rounds(p, rounds):

@@ -24,7 +24,7 @@ METHODS = set(
 )
 BARRED_KINDS = (
     ast.With, ast.Match, ast.Global, ast.Nonlocal, ast.Yield, ast.YieldFrom, ast.GeneratorExp, ast.NamedExpr,
-    ast.AsyncFunctionDef, ast.Await, ast.Div, ast.Import,
+    ast.AsyncFunctionDef, ast.Await, ast.Div, ast.Import, ast.Set, ast.SetComp, ast.Lambda, ast.Pow, ast.AnnAssign,
 )
 
 
@@ -108,6 +108,53 @@ class TestForm(unittest.TestCase):
             for node in ast.walk(tree):
                 if isinstance(node, ast.Name) and isinstance(node.ctx, ast.Load):
                     self.assertIn(node.id, bound | OWN_NAMES, path)
+
+    def test_no_local_is_called_like_a_class_or_an_import(self):
+        for path in FILES:
+            tree = ast.parse(path.read_text())
+            taken = {row.name for row in tree.body if isinstance(row, ast.ClassDef)}
+            for row in tree.body:
+                if isinstance(row, ast.ImportFrom):
+                    taken.update(alias.name for alias in row.names)
+            for node in ast.walk(tree):
+                if isinstance(node, ast.arg):
+                    self.assertNotIn(node.arg, taken, path)
+                elif isinstance(node, ast.Name) and isinstance(node.ctx, ast.Store):
+                    self.assertNotIn(node.id, taken, path)
+
+    def test_each_name_is_bound_once_at_the_top(self):
+        for path in FILES:
+            names = []
+            for row in ast.parse(path.read_text()).body:
+                if isinstance(row, ast.ImportFrom):
+                    names += [alias.name for alias in row.names]
+                elif isinstance(row, ast.Assign):
+                    names += [target.id for target in row.targets]
+                elif isinstance(row, (ast.FunctionDef, ast.ClassDef)):
+                    names.append(row.name)
+                else:
+                    # All that is left is the docstring.
+                    self.assertIsInstance(row, ast.Expr, path)
+                    self.assertIsInstance(row.value, ast.Constant, path)
+            self.assertEqual(len(names), len(set(names)), path)
+
+    def test_texts(self):
+        for path in FILES:
+            self.assertIsNone(re.search(r"\\[^n]", path.read_text()), path)
+            for node in ast.walk(ast.parse(path.read_text())):
+                if isinstance(node, ast.Constant) and isinstance(node.value, str):
+                    self.assertNotIn("%", node.value, path)
+                elif isinstance(node, ast.FormattedValue):
+                    self.assertIsNone(node.format_spec, path)
+
+    def test_errors_are_the_packages_own(self):
+        own = {row.name for row in ast.parse((PACKAGE / "errors.py").read_text()).body if isinstance(row, ast.ClassDef)}
+        for path in FILES:
+            for node in ast.walk(ast.parse(path.read_text())):
+                if isinstance(node, ast.Raise):
+                    self.assertIn(node.exc.func.id, own, path)
+                elif isinstance(node, ast.ExceptHandler):
+                    self.assertIn(node.type.id, own, path)
 
     def test_methods_and_values(self):
         trees = [ast.parse(path.read_text()) for path in FILES]

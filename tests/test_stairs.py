@@ -3,61 +3,12 @@
 import unittest
 
 from duskround.stairs import built, column, low, rest_of, taken
-from helper import HUGE, SETTINGS, chance, check_pattern, check_untouched, within_steps
+from helper import (
+    HUGE, SETTINGS, chance, check_pattern, check_stairs, check_untouched, column_of, drawn, lies_low, put_together,
+    summed, within_steps,
+)
 
 STRIDES = range(9)
-
-
-def column_of(place, stride):
-    """A column found by going up or down by strides, not by parting."""
-    while stride and place < 0:
-        place += stride
-    while stride and place >= stride:
-        place -= stride
-    return place
-
-
-def summed(p, pairs):
-    """The pattern that pairs make together."""
-    lamps = {}
-    for place, setting in pairs:
-        lamps[place] = lamps.get(place, 0) + setting
-    return tuple((place, lamps[place] % p) for place in sorted(lamps) if lamps[place] % p)
-
-
-def put_together(p, stride, patterns, parts, rest=()):
-    """A rest and the patterns of some parts, each moved and so many times, added lamp by lamp."""
-    pairs = list(rest)
-    for which, shift, setting in parts:
-        pairs += [(place + stride * shift, lamp * setting) for place, lamp in patterns[which]]
-    return summed(p, pairs)
-
-
-def first_and_lit(pattern, stride):
-    """The first column of a pattern, and the pairs that it has there."""
-    first = min(column_of(place, stride) for place, setting in pattern)
-    return first, [pair for pair in pattern if column_of(pair[0], stride) == first]
-
-
-def length_of(pattern, stride):
-    lit = first_and_lit(pattern, stride)[1]
-    return (lit[-1][0] - lit[0][0]) // stride if stride else 0
-
-
-def lies_low(stride, stairs, pattern):
-    """Whether a pattern lies low, by the places that [9] tells for each stair."""
-    for stair in stairs:
-        first = first_and_lit(stair, stride)[0]
-        free = [first + stride * k for k in range(length_of(stair, stride))]
-        if any(column_of(place, stride) == first and place not in free for place, setting in pattern):
-            return False
-    return True
-
-
-def drawn(source, p, reach, many):
-    """A pattern of at most so many lamps."""
-    places = source.sample(range(-reach, reach + 1), min(source.randint(0, many), 2 * reach + 1))
-    return tuple((place, source.randint(1, p - 1)) for place in sorted(places))
 
 
 def mixed(source, p, stride, patterns):
@@ -83,20 +34,6 @@ def some_patterns(source, p, stride):
 
 
 class TestStairs(unittest.TestCase):
-    def check_stair(self, p, stride, stair):
-        check_pattern(self, p, stair)
-        self.assertNotEqual(stair, ())
-        first, lit = first_and_lit(stair, stride)
-        self.assertEqual(lit[-1][1], 1)
-        self.assertEqual(lit[0][0], first)
-
-    def check_stairs(self, p, stride, stairs):
-        self.assertIs(type(stairs), tuple)
-        for stair in stairs:
-            self.check_stair(p, stride, stair)
-        firsts = [first_and_lit(stair, stride)[0] for stair in stairs]
-        self.assertEqual(firsts, sorted(set(firsts)))
-
     def check_parts(self, p, stride, many, parts):
         self.assertIs(type(parts), list)
         for part in parts:
@@ -124,7 +61,7 @@ class TestStairs(unittest.TestCase):
         told = check_untouched(self, built, p, stride, patterns)
         self.assertIs(type(told), tuple)
         stairs, makers = told
-        self.check_stairs(p, stride, stairs)
+        check_stairs(self, p, stride, stairs)
         self.assertIs(type(makers), list)
         self.assertEqual(len(makers), len(stairs))
         for at, stair in enumerate(stairs):
@@ -148,7 +85,7 @@ class TestStairs(unittest.TestCase):
             for place in source.sample(behind, source.randint(0, min(6, len(behind)))):
                 lamps[place] = source.randint(1, p - 1)
             stairs.append(summed(p, lamps.items()))
-        self.check_stairs(p, stride, tuple(stairs))
+        check_stairs(self, p, stride, tuple(stairs))
         return tuple(stairs)
 
 

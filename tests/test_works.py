@@ -5,7 +5,7 @@ import unittest
 from duskround import errors
 from duskround.works import spelled, worked
 from helper import (
-    HUGE, SETTINGS, VAST, chance, check_refused, check_round, check_untouched, some_round, walked_rounds,
+    HUGE, SETTINGS, VAST, chance, check_refused, check_round, check_untouched, some_round, walked_rounds, way_back,
     within_steps,
 )
 
@@ -29,11 +29,6 @@ def spelled_lines(lines):
             row = rows[line[1]] if line[2] >= 0 else turned(rows[line[1]])
             rows.append(row * abs(line[2]))
     return rows
-
-
-def way_back(p, one):
-    end, pattern = one
-    return (-end, tuple((place - end, p - setting) for place, setting in pattern))
 
 
 def gone_row(p, members, row):
